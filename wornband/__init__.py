@@ -1,0 +1,1 @@
+"""Wornband: bands woven on tablets, and worn ones restored."""

@@ -1,8 +1,14 @@
 """Bands: what a draft of tablets weaves by a plan of rows."""
 
-from wornband.tablets import bottom, top, turned, twisting
+from wornband.tablets import TURNS, bottom, top, turned, twisting
 
+SIDES = ("face", "back", "slant")
 SLANTS = {1: "s", -1: "z", 0: "o"}
+
+
+def is_row(text, width):
+    """Whether a text has just one turn for each of so many tablets."""
+    return len(text) == width and all([sign in TURNS for sign in text])
 
 
 def left_place(tablet, turn):

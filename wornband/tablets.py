@@ -3,6 +3,7 @@
 from wornband.errors import BadTablet
 
 HOLES = 4
+TURNS = "fbi"
 STEPS = {"f": 1, "b": -1, "i": 0}
 OPPOSITES = {"f": "b", "b": "f", "i": "i"}
 OTHER_LAYS = {"S": "Z", "Z": "S"}

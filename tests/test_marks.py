@@ -4,12 +4,12 @@ import copy
 import itertools
 import unittest
 
+from tests.helpers import WORN
 from wornband.bands import woven
 from wornband.errors import BadMark, BadText
 from wornband.marks import Fragment, agrees, parting, sheet_of, sheet_text
 
 SIDES = ("face", "back", "slant")
-WORN = ("?", "?", "?")
 PLACE = ("a", "b", "s")
 LINE = " ".join(["ab?", "?xz", "???", "z?o", "??s", "m??", "?n?", "zzz"])
 

@@ -4,21 +4,14 @@ import copy
 import itertools
 import unittest
 
+from tests.helpers import WORN, marks
 from wornband.errors import NoSuchWay
 from wornband.restorer import does, least, rank, restore, search, way, ways
 from wornband.strands import left_by
 
-WORN = ("?", "?", "?")
 TABLETS = [(lay, holes, stand) for lay in "SZ" for holes in ("abcd", "aabb") for stand in range(4)]
 S0 = ("S", "abcd", 0)
 Z0 = ("Z", "abcd", 0)
-
-
-def marks(text):
-    """A strip of marks that are written with blanks between."""
-    return [tuple(word) for word in text.split()]
-
-
 STRIPS = [marks(text) for text in (
     "", "???", "a??", "?b?", "??s", "??o", "x??", "??? ???", "??s ??z", "??o ??o", "b?? c??", "?a? ???", "??? a?? ???",
     "??s ??s ??s", "??o ??o ??o", "b?? ??o ???", "??? ??? ??? ???", "??? ?c? ??z ???", "a?? ??o a?? a?o",
@@ -263,6 +256,15 @@ class Ways(unittest.TestCase):
             for number in (0, -1, 1, -10 ** 40):
                 self.none_such(way, S0, strip, 1, 60, number)
             self.none_such(rank, S0, strip, 1, 60, "f" * len(strip))
+
+    def test_a_bound_below_nought(self):
+        # The twist is nought ahead of all turns, and that is above such a bound.
+        for strip in ([], [WORN], [WORN] * 3):
+            self.assertEqual(search(S0, strip, 3, -1), [[]])
+            self.assertEqual(ways(S0, strip, 3, -1), 0)
+            self.assertIs(does(S0, strip, 3, -1, "i" * len(strip)), False)
+            self.none_such(way, S0, strip, 3, -1, 0)
+            self.none_such(rank, S0, strip, 3, -1, "i" * len(strip))
 
     def test_60_marks_wholly_worn(self):
         strip = [WORN] * 60

@@ -4,6 +4,7 @@ import copy
 import itertools
 import unittest
 
+from tests.helpers import marks
 from wornband.errors import BadMark
 from wornband.marks import agrees
 from wornband.strands import left_by
@@ -12,11 +13,6 @@ from wornband.threads import threaded
 COLUMNS = ["".join(turns) for long in range(5) for turns in itertools.product("fbi", repeat=long)]
 LONG = "fbiffbbi" * 7 + "ffbi"
 MARKS = list(itertools.product("?ab", "?ab", "szo"))
-
-
-def marks(text):
-    """A strip of marks that are written with blanks between."""
-    return [tuple(word) for word in text.split()]
 
 
 def wished(strip):

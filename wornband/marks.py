@@ -31,10 +31,8 @@ def parting(band, sheet):
 
 
 def fits(side, sign):
-    """Whether a text is one sign that may stand on this side."""
-    if side == "slant":
-        return sign in SLANT_SIGNS
-    return len(sign) == 1 and is_colour(sign)
+    """Whether a text is a sign that may stand on this side."""
+    return sign in SLANT_SIGNS if side == "slant" else is_colour(sign)
 
 
 def sheet_text(sheet):

@@ -20,9 +20,9 @@ def made(lay, holes, stand):
     return (lay, holes, stand)
 
 
-def is_colour(sign):
-    """Whether one sign is a colour."""
-    return "a" <= sign <= "z"
+def is_colour(text):
+    """Whether a text is a colour."""
+    return len(text) == 1 and "a" <= text <= "z"
 
 
 def top(tablet):
